@@ -1,0 +1,1 @@
+"""Deeds that tell what they would do."""

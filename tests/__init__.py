@@ -1,0 +1,1 @@
+"""The tests of onlytell, for `python3 -m unittest`."""

@@ -1,0 +1,87 @@
+"""Rules of the language that a look at the text decides: files, sizes, signs, and words that are not used."""
+
+import ast
+import builtins
+import pathlib
+import unittest
+
+FOLDER = pathlib.Path(__file__).resolve().parent.parent / "onlytell"
+
+USED_BUILTINS = (
+    "len range enumerate zip min max sum abs sorted reversed int str bool bytes list tuple dict set frozenset map "
+    "isinstance ord repr any all divmod pow getattr hasattr setattr iter next type object float super property "
+    "staticmethod classmethod Exception ValueError TypeError KeyError IndexError LookupError ZeroDivisionError "
+    "ArithmeticError OverflowError RuntimeError NotImplementedError AttributeError StopIteration NotImplemented"
+).split()
+ARITHMETIC = "add sub mul floordiv mod pow and or xor lshift rshift".split()
+OPERATORS = (
+    "init eq repr str len enter exit call iter lt le gt ge ne neg pos invert abs bool contains getitem setitem"
+).split() + [side + word for side in ("", "r", "i") for word in ARITHMETIC if side + word != "rpow"]
+DUNDERS = [f"__{word}__" for word in OPERATORS]
+BARRED = (ast.AsyncFunctionDef, ast.Import, ast.Div)
+
+
+def files():
+    return sorted(FOLDER.glob("*.py"))
+
+
+def nodes(kind):
+    """Each (file, node) of this kind."""
+    for path in files():
+        for node in ast.walk(ast.parse(path.read_text(encoding="utf-8"))):
+            if isinstance(node, kind):
+                yield path.name, node
+
+
+class Files(unittest.TestCase):
+    def test_the_folder_has_nothing_but_files_of_python(self):
+        others = [path.name for path in FOLDER.iterdir() if path.suffix != ".py" and path.name != "__pycache__"]
+        self.assertEqual(others, [])
+
+    def test_sizes_and_signs(self):
+        for path in files():
+            text = path.read_text(encoding="utf-8")
+            self.assertLessEqual(len(text.split("\n")), 399, path.name)
+            self.assertLessEqual(max(len(line) for line in text.split("\n")), 120, path.name)
+            self.assertEqual([sign for sign in text if sign != "\n" and not " " <= sign <= "~"], [], path.name)
+
+    def test_functions_have_at_most_40_lines(self):
+        for name, node in nodes(ast.FunctionDef):
+            self.assertLessEqual(node.end_lineno - node.lineno + 1, 40, (name, node.name))
+
+
+class Words(unittest.TestCase):
+    def test_only_some_builtins_are_read_and_none_is_bound(self):
+        for name, node in nodes(ast.Name):
+            if node.id in vars(builtins):
+                self.assertIn(node.id, USED_BUILTINS, name)
+                self.assertIsInstance(node.ctx, ast.Load, (name, node.id))
+        for name, node in nodes((ast.FunctionDef, ast.ClassDef)):
+            self.assertNotIn(node.name, USED_BUILTINS, name)
+        for name, node in nodes(ast.arg):
+            self.assertNotIn(node.arg, vars(builtins), name)
+
+    def test_only_some_methods_have_two_underscores(self):
+        for name, node in nodes(ast.FunctionDef):
+            if node.name.startswith("__"):
+                self.assertIn(node.name, DUNDERS, name)
+
+    def test_a_class_whose_items_are_read_says_how_it_is_iterated_over(self):
+        for name, node in nodes(ast.ClassDef):
+            methods = [part.name for part in node.body if isinstance(part, ast.FunctionDef)]
+            self.assertLessEqual("__getitem__" in methods, "__iter__" in methods, (name, node.name))
+
+    def test_barred_statements_and_values(self):
+        for name, node in nodes(BARRED):
+            self.fail((name, node.lineno))
+        for name, node in nodes(ast.Constant):
+            self.assertNotIsInstance(node.value, (float, complex), name)
+
+    def test_any_and_its_kind_take_lists(self):
+        for name, node in nodes(ast.Call):
+            if isinstance(node.func, ast.Name) and node.func.id in ("any", "all", "sum", "min", "max", "sorted"):
+                self.assertNotIsInstance(node.args[0], ast.GeneratorExp, (name, node.lineno))
+
+
+if __name__ == "__main__":
+    unittest.main()
