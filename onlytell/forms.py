@@ -3,6 +3,9 @@
 # How a store tells that a key is gone.
 GONE = -1
 
+# How a show remembers a key: to the end of the letter, or through the whole row.
+HOWS = ("deed", "row")
+
 
 def is_integer(value):
     """Whether the value is an integer; True and False are none."""
@@ -40,3 +43,63 @@ def is_store(book, value):
     if not isinstance(value, tuple) or len(value) != len(book.key_rows):
         return False
     return all([is_worth_or_gone(row, worth) for row, worth in zip(book.key_rows, value)])
+
+
+def is_ascending(values):
+    """Whether each value comes ahead of the next one, as Python sorts."""
+    return all([one < other for one, other in zip(values, values[1:])])
+
+
+def is_letter(book, value):
+    """Whether the value is a letter of this book."""
+    if not isinstance(value, tuple) or len(value) != 2:
+        return False
+    return is_integer(value[1]) and value in book.letters
+
+
+def is_row(book, value):
+    """Whether the value is a row of letters of this book."""
+    return isinstance(value, tuple) and all([is_letter(book, letter) for letter in value])
+
+
+def is_memory(book, value):
+    """Whether the value tells keys of this book that a show remembers."""
+    if not isinstance(value, tuple) or not all([is_kept(book, part) for part in value]):
+        return False
+    return is_ascending([part[0] for part in value])
+
+
+def is_kept(book, value):
+    """Whether the value is a key of this book, and how it is remembered."""
+    if not isinstance(value, tuple) or len(value) != 2:
+        return False
+    return place_of(book, value[0]) is not None and value[1] in HOWS
+
+
+def is_machine(book, value):
+    """Whether the value is a machine of this book."""
+    if not isinstance(value, tuple):
+        return False
+    if len(value) == 1:
+        return value[0] == "run"
+    return len(value) == 2 and value[0] == "show" and is_memory(book, value[1])
+
+
+def is_state(book, machine, value):
+    """Whether the value is a state of this machine."""
+    if not isinstance(value, tuple) or len(value) != 2:
+        return False
+    return is_store(book, value[0]) and is_left(book, machine, value[1])
+
+
+def is_left(book, machine, value):
+    """Whether the value is what this machine can remember between two letters."""
+    if not isinstance(value, tuple):
+        return False
+    keys = [key for key, how in machine[1] if how == "row"] if machine[0] == "show" else []
+    for part in value:
+        if not isinstance(part, tuple) or len(part) != 2 or part[0] not in keys:
+            return False
+        if not is_worth_or_gone(book.key_rows[place_of(book, part[0])], part[1]):
+            return False
+    return is_ascending([part[0] for part in value])

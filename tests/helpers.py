@@ -1,7 +1,8 @@
-"""What several tests need: a stand-in for a Book, values of every kind, and a comparison that tells kinds apart."""
+"""What several tests need: books, values of every kind, and a comparison that tells kinds apart."""
 
 import copy
-from itertools import product
+
+from onlytell.books import Book
 
 ANY_VALUES = (
     0, 1, -1, 7, 10 ** 30, True, False, None, "", "a", "put", "no such", "0",
@@ -10,21 +11,17 @@ ANY_VALUES = (
 )
 
 
-class StandInBook:
-    """Has the properties of a Book that tellings and stores need, until books are there."""
-
-    def __init__(self, key_rows, deeds, groups=()):
-        self.text = "stand-in"
-        self.key_rows = key_rows
-        self.groups = groups
-        self.deeds = deeds
-        self.stores = tuple(sorted(product(*[worths_of(row) for row in key_rows])))
-        self.letters = tuple((deed[0], number) for deed in deeds for number in range(deed[1]))
+def lined(*lines):
+    """The text of these lines."""
+    return "\n".join(lines)
 
 
-def worths_of(key_row):
-    lowest = -1 if key_row[2] else 0
-    return range(lowest, key_row[1])
+def book_of(key_rows, deeds):
+    """A Book with these keys and deeds, each of which is over at once."""
+    lines = [f"{'may' if may else 'key'} {name} {size}" for name, size, may in key_rows]
+    for name, size, is_blind, key in deeds:
+        lines += [f"deed {name} {size}{' blind' if is_blind else ''}{f' when {key}' if key else ''}", "  end"]
+    return Book(lined(*lines))
 
 
 KEY_ROWS = (("a", 2, False), ("m", 3, True), ("b", 3, False))
@@ -44,7 +41,7 @@ OTHER_KEY_ROWS = (
 
 def three_keys():
     """A book of the keys a (0 to 1), m (0 to 2, may be gone) and b (0 to 2), always a new object."""
-    return StandInBook(KEY_ROWS, DEEDS)
+    return book_of(KEY_ROWS, DEEDS)
 
 
 def same(one, other):

@@ -3,6 +3,7 @@
 import ast
 import builtins
 import pathlib
+import re
 import unittest
 
 FOLDER = pathlib.Path(__file__).resolve().parent.parent / "onlytell"
@@ -19,6 +20,27 @@ OPERATORS = (
 ).split() + [side + word for side in ("", "r", "i") for word in ARITHMETIC if side + word != "rpow"]
 DUNDERS = [f"__{word}__" for word in OPERATORS]
 BARRED = (ast.AsyncFunctionDef, ast.Import, ast.Div)
+# Doctest binds `_` among the builtins; the language lets it be assigned, but not read.
+BUILTINS = [name for name in vars(builtins) if name != "_"]
+UNUSED_NAMES = (
+    "register mro elements open input law version_info with_traceback add_note attrgetter breakpoint builtins compile "
+    "copyright credits delattr dir eval exec exit gc globals help id importlib license locals methodcaller os quit super "
+    "vars sys"
+).split()
+UNUSED_WORDS = (
+    "type typing typing_extensions enum Enum IntEnum StrEnum Flag IntFlag Generic Protocol ABC ABCMeta namedtuple "
+    "NamedTuple TypedDict TYPE_CHECKING abstractmethod"
+).split()
+# What strings, lists and dicts have as a method is no name of an attribute.
+UNUSED_ATTRIBUTES = (
+    "items keys values pop update append clear extend insert remove reverse setdefault sort args encode decode hex "
+    "fromhex format format_map mro"
+).split()
+METHODS_OF_VALUES = (
+    "append clear copy count endswith extend find get index insert isalnum isalpha isdigit islower isspace isupper items "
+    "join keys ljust lower lstrip partition pop remove replace reverse rfind rjust rpartition rsplit rstrip setdefault "
+    "split splitlines startswith strip update upper values zfill bit_length"
+).split()
 
 
 def files():
@@ -53,13 +75,13 @@ class Files(unittest.TestCase):
 class Words(unittest.TestCase):
     def test_only_some_builtins_are_read_and_none_is_bound(self):
         for name, node in nodes(ast.Name):
-            if node.id in vars(builtins):
+            if node.id in BUILTINS:
                 self.assertIn(node.id, USED_BUILTINS, name)
                 self.assertIsInstance(node.ctx, ast.Load, (name, node.id))
         for name, node in nodes((ast.FunctionDef, ast.ClassDef)):
             self.assertNotIn(node.name, USED_BUILTINS, name)
         for name, node in nodes(ast.arg):
-            self.assertNotIn(node.arg, vars(builtins), name)
+            self.assertNotIn(node.arg, BUILTINS, name)
 
     def test_only_some_methods_have_two_underscores(self):
         for name, node in nodes(ast.FunctionDef):
@@ -76,6 +98,52 @@ class Words(unittest.TestCase):
             self.fail((name, node.lineno))
         for name, node in nodes(ast.Constant):
             self.assertNotIsInstance(node.value, (float, complex), name)
+
+    def test_the_name_of_one_underscore_is_never_read(self):
+        for name, node in nodes(ast.Name):
+            if node.id == "_":
+                self.assertIsInstance(node.ctx, ast.Store, (name, node.lineno))
+
+    def test_words_and_names_that_are_not_used(self):
+        for name, node in nodes((ast.Name, ast.arg, ast.Attribute, ast.FunctionDef, ast.ClassDef, ast.keyword)):
+            word = getattr(node, "id", None) or getattr(node, "arg", None) or getattr(node, "name", None)
+            self.assertNotIn(word, UNUSED_NAMES + UNUSED_WORDS, name)
+        for name, node in nodes(ast.Constant):
+            if isinstance(node.value, str):
+                self.assertNotIn("%", node.value, name)
+                self.assertEqual([word for word in UNUSED_WORDS if word in re.findall("[A-Za-z_]+", node.value)], [],
+                                 name)
+
+    def test_names_of_attributes(self):
+        for name, node in nodes(ast.Attribute):
+            if isinstance(node.ctx, ast.Store):
+                self.assertNotIn(node.attr, UNUSED_ATTRIBUTES, (name, node.lineno))
+
+    def test_methods_of_values_are_known_or_own(self):
+        own = [node.name for _, node in nodes(ast.FunctionDef)]
+        for name, node in nodes(ast.Call):
+            if isinstance(node.func, ast.Attribute):
+                self.assertIn(node.func.attr, METHODS_OF_VALUES + own, (name, node.lineno))
+
+    def test_attributes_that_are_read_are_assigned(self):
+        assigned = [node.attr for _, node in nodes(ast.Attribute) if isinstance(node.ctx, ast.Store)]
+        own = [node.name for _, node in nodes(ast.FunctionDef)] + METHODS_OF_VALUES
+        for name, node in nodes(ast.Attribute):
+            self.assertIn(node.attr, assigned + own, (name, node.lineno))
+
+    def test_no_name_in_a_function_is_that_of_a_class_or_an_import(self):
+        for path in files():
+            tree = ast.parse(path.read_text(encoding="utf-8"))
+            taken = [node.name for node in ast.walk(tree) if isinstance(node, ast.ClassDef)]
+            taken += [part.name for node in ast.walk(tree) if isinstance(node, ast.ImportFrom) for part in node.names]
+            for node in ast.walk(tree):
+                if isinstance(node, ast.arg) or isinstance(node, ast.Name) and isinstance(node.ctx, ast.Store):
+                    self.assertNotIn(getattr(node, "arg", None) or getattr(node, "id", None), taken, path.name)
+
+    def test_reversed_and_sort_are_not_called(self):
+        for name, node in nodes(ast.Call):
+            if isinstance(node.func, ast.Name):
+                self.assertNotEqual(node.func.id, "reversed", (name, node.lineno))
 
     def test_any_and_its_kind_take_lists(self):
         for name, node in nodes(ast.Call):

@@ -7,7 +7,7 @@ from onlytell.errors import BadStore, BadWorth, Gone, Lasting, NoKey, OtherStore
 from onlytell.stores import Store
 from onlytell.tellings import Telling
 from tests.helpers import (
-    ANY_VALUES, DEEDS, KEY_ROWS, OTHER_KEY_ROWS, StandInBook, check_equal, check_refused, nested, same, three_keys,
+    ANY_VALUES, DEEDS, KEY_ROWS, OTHER_KEY_ROWS, book_of, check_equal, check_refused, nested, same, three_keys,
 )
 
 NO_STORES = ANY_VALUES + (
@@ -37,7 +37,7 @@ class Creation(unittest.TestCase):
                 check_refused(self, BadStore, value, Store, three_keys(), value)
 
     def test_stores_go_by_the_size_of_each_key(self):
-        book = StandInBook((("a", 3, True),), DEEDS)
+        book = book_of((("a", 3, True),), DEEDS)
         right = [worth for worth in range(-5, 9) if self.is_taken(book, worth)]
         self.assertEqual(right, [-1, 0, 1, 2])
 
@@ -77,7 +77,7 @@ class Reading(unittest.TestCase):
         self.assertEqual([key in store for key in ("a", "m", "b", "c")], [True, True, True, False])
 
     def test_len_is_the_number_of_keys_that_are_there(self):
-        many = StandInBook((("a", 2, True), ("b", 2, True), ("c", 2, False), ("d", 3, True)), DEEDS)
+        many = book_of((("a", 2, True), ("b", 2, True), ("c", 2, False), ("d", 2, True)), DEEDS)
         for worths in many.stores:
             self.assertEqual(len(Store(many, worths)), len([worth for worth in worths if worth != -1]))
 
@@ -170,11 +170,11 @@ class Equality(unittest.TestCase):
     def test_books_with_equal_and_with_other_key_rows(self):
         one = Store(three_keys(), (1, 1, 1))
         check_equal(self, one, Store(three_keys(), (1, 1, 1)), True)
-        check_equal(self, one, Store(StandInBook(KEY_ROWS, DEEDS[:1]), (1, 1, 1)), True)
+        check_equal(self, one, Store(book_of(KEY_ROWS, DEEDS[:1]), (1, 1, 1)), True)
         a, m, b = KEY_ROWS
-        check_equal(self, Store(StandInBook((a, m), DEEDS), (1, 1)), Store(StandInBook((a, b), DEEDS), (1, 1)), False)
+        check_equal(self, Store(book_of((a, m), DEEDS), (1, 1)), Store(book_of((a, b), DEEDS), (1, 1)), False)
         for key_rows in [rows for rows in OTHER_KEY_ROWS if len(rows) == 3]:
-            check_equal(self, one, Store(StandInBook(key_rows, DEEDS), (1, 1, 1)), False)
+            check_equal(self, one, Store(book_of(key_rows, DEEDS), (1, 1, 1)), False)
 
     def test_stores_that_became_alike(self):
         one, other = Store(three_keys(), (0, 1, 1)), Store(three_keys(), (1, 1, 1))
@@ -221,13 +221,13 @@ class Putting(unittest.TestCase):
         self.check_put((("say", 7), ("refused", ("put", "look"), "no"), ("say", 0)), (1, -1, 2), (1, -1, 2))
 
     def test_no_deed_is_woken(self):
-        book = StandInBook((("a", 2, False), ("b", 2, False)), (("one", 1, False, ""), ("two", 1, False, "a")))
+        book = book_of((("a", 2, False), ("b", 2, False)), (("one", 1, False, ""), ("two", 1, False, "a")))
         store = Store(book, (0, 0))
         store |= Telling(book, (("set", "a", 1),))
         self.assertEqual(store.worths, (1, 0))
 
     def test_deeds_need_not_be_alike(self):
-        store = Store(StandInBook(KEY_ROWS, (("more", 1, False, ""),)), (0, 0, 0))
+        store = Store(book_of(KEY_ROWS, (("more", 1, False, ""),)), (0, 0, 0))
         store |= Telling(three_keys(), (("refused", ("put",), "no"), ("set", "a", 1)))
         self.assertEqual(store.worths, (1, 0, 0))
 
@@ -254,7 +254,7 @@ class Putting(unittest.TestCase):
 
     def test_other_stores(self):
         for key_rows in OTHER_KEY_ROWS:
-            book = StandInBook(key_rows, DEEDS)
+            book = book_of(key_rows, DEEDS)
             for effects in ((), (("set", "m", 0),), (("drop", "m"),)):
                 telling = Telling(book, effects)
                 self.check_refused_put(OtherStore, telling, Store(three_keys(), (1, -1, 2)), telling)

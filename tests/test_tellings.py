@@ -5,7 +5,7 @@ import unittest
 from onlytell.errors import BadStore, BadTelling, NoEffect, OtherBook, Stuck
 from onlytell.tellings import Telling
 from tests.helpers import (
-    ANY_VALUES, DEEDS, KEY_ROWS, OTHER_KEY_ROWS, StandInBook, check_equal, check_refused, nested, same, three_keys,
+    ANY_VALUES, DEEDS, KEY_ROWS, OTHER_KEY_ROWS, book_of, check_equal, check_refused, nested, same, three_keys,
 )
 
 RIGHT_EFFECTS = (
@@ -80,7 +80,7 @@ class Form(unittest.TestCase):
                     check_refused(self, BadTelling, value, Telling, three_keys(), value)
 
     def test_growths_and_worths_go_by_the_size_of_their_own_key(self):
-        book = StandInBook((("one", 2, True), ("two", 3, True)), DEEDS)
+        book = book_of((("one", 2, True), ("two", 3, True)), DEEDS)
         for word in ("set", "add"):
             self.assertEqual(len(Telling(book, ((word, "one", 1), (word, "two", 2)))), 2)
             check_refused(self, BadTelling, ((word, "one", 2),), Telling, book, ((word, "one", 2),))
@@ -171,7 +171,7 @@ class Sums(unittest.TestCase):
         self.assertIsNot(one + empty, one)
 
     def test_books_that_only_have_keys_and_names_of_deeds_in_common(self):
-        other_book = StandInBook(KEY_ROWS, (("put", 1, True, "a"), ("look", 3, False, "m")))
+        other_book = book_of(KEY_ROWS, (("put", 1, True, "a"), ("look", 3, False, "m")))
         one = Telling(three_keys(), (("say", 1),))
         both = one + Telling(other_book, (("say", 2),))
         self.assertIs(both.book, one.book)
@@ -181,7 +181,7 @@ class Sums(unittest.TestCase):
         one = Telling(three_keys(), (("say", 1),))
         for key_rows, deeds in other_books():
             with self.subTest(key_rows=key_rows, deeds=deeds):
-                other = Telling(StandInBook(key_rows, deeds), (("say", 2),))
+                other = Telling(book_of(key_rows, deeds), (("say", 2),))
                 with self.assertRaises(OtherBook) as caught:
                     one + other
                 self.assertIs(caught.exception.value, other)
@@ -219,7 +219,7 @@ class Equality(unittest.TestCase):
     def test_books_with_equal_and_with_other_key_rows(self):
         one = Telling(three_keys(), (("say", 1),))
         for key_rows, deeds in other_books():
-            other = Telling(StandInBook(key_rows, deeds), (("say", 1),))
+            other = Telling(book_of(key_rows, deeds), (("say", 1),))
             check_equal(self, one, other, key_rows == KEY_ROWS)
 
     def test_equal_to_nothing_else(self):
