@@ -23,6 +23,9 @@ class Scene:
         self.left = dict(left)
         self.told = []
         self.seen = []
+        # The keys that the letter has changed by now, and those that it looked at ahead of any change of theirs.
+        self.changed = {}
+        self.read_first = {}
         self.many = 0
 
     def read(self, key, is_shown):
@@ -33,6 +36,7 @@ class Scene:
 
     def put(self, key, worth, is_shown):
         """Let a key have this worth, or be gone; a show changes only what it remembers."""
+        self.changed[key] = True
         if not is_shown:
             self.base[key] = worth
         elif key in self.hows:
@@ -79,14 +83,28 @@ def walked(book, machine, store, row):
     return (tuple(tellings), state)
 
 
+def worths_read(book, state):
+    """What a deed that is not blind reads of each key, in this state of a machine."""
+    worths = {row[0]: worth for row, worth in zip(book.key_rows, state[0])}
+    for key, worth in state[1]:
+        worths[key] = worth
+    return worths
+
+
+def told_from_each(book, row):
+    """For each store, the tellings of a run of the row from it."""
+    return {store: walked(book, ("run",), store, row)[0] for store in book.stores}
+
+
 def execute_deed(scene, program, it, is_shown):
     """Execute a deed; (road, word) if it is refused, and then its effects are taken back."""
     frame = Frame(it, is_shown and not program.is_blind, "")
-    many_told, base, left = len(scene.told), dict(scene.base), dict(scene.left)
+    many_told, base, left, changed = len(scene.told), dict(scene.base), dict(scene.left), dict(scene.changed)
     outcome = execute_block(scene, program.block, frame)
     if outcome is None or outcome == OVER:
         return None
     scene.told = scene.told[:many_told]
+    scene.changed = changed
     # What blind deeds did to the base stays, unless the refused deed is blind, or below a blind one.
     if frame.is_shown:
         scene.left = left
@@ -270,5 +288,7 @@ def key_of(statement, frame):
 def look(scene, statement, key, frame):
     """What the deed reads of a key here; that it was looked at is kept."""
     worth = scene.read(key, frame.is_shown)
+    if key not in scene.changed:
+        scene.read_first[key] = True
     scene.seen.append((statement.line, key, worth))
     return worth

@@ -33,6 +33,17 @@ class Pair:
             return False
         return is_state(self._books[1], self._machines[1], value[1])
 
+    def shows_alike(self, firsts, value):
+        """Whether the value is a closed table with these first pairs, in which both always tell the same."""
+        return is_table(value, self.is_member) and is_closed(value, firsts, self._books[0].letters, self.parts)
+
+    def shows_parting(self, first, value):
+        """Whether the value is a row by whose last letter both tell different things, and by no letter ahead."""
+        if not is_row(self._books[0], value):
+            return False
+        found = sought_steps(first, value, self.parts)
+        return found[-1:] == [True] and not any(found[:-1])
+
 
 def beside(book, one, newer, other):
     """("alike", table), or ("parts", store, row) with any shortest row; BadMachine, Unlike, TooMany."""
@@ -48,13 +59,10 @@ def shows_beside(book, one, newer, other, value):
     pair = Pair(book, one, newer, other)
     if not isinstance(value, tuple) or len(value) < 2:
         return False
-    if value[0] == "alike" and len(value) == 2 and is_table(value[1], pair.is_member):
-        firsts = [first_pair(store) for store in book.stores]
-        return is_closed(value[1], firsts, book.letters, pair.parts)
-    if value[0] == "parts" and len(value) == 3 and is_store(book, value[1]) and is_row(book, value[2]):
-        # By no letter ahead of the last one they may tell different things.
-        found = sought_steps(first_pair(value[1]), value[2], pair.parts)
-        return found[-1:] == [True] and not any(found[:-1])
+    if value[0] == "alike" and len(value) == 2:
+        return pair.shows_alike([first_pair(store) for store in book.stores], value[1])
+    if value[0] == "parts" and len(value) == 3 and is_store(book, value[1]):
+        return pair.shows_parting(first_pair(value[1]), value[2])
     return False
 
 

@@ -2,7 +2,7 @@
 
 from onlytell.acting import step
 from onlytell.errors import BadDeeds, BadInput, NoDeed, OtherStore
-from onlytell.forms import GONE, is_ascending, is_integer
+from onlytell.forms import GONE, is_ascending, is_input
 from onlytell.naming import check_directions, check_names
 from onlytell.scripts import script_of
 from onlytell.stores import Store
@@ -66,7 +66,7 @@ class Deed:
     def __call__(self, store, it=0):
         if not isinstance(store, Store) or store.book.key_rows != self.book.key_rows:
             raise OtherStore(store)
-        if not is_integer(it) or not 0 <= it < self.size:
+        if not is_input(self.size, it):
             raise BadInput(it)
         telling, state = step(self.book, ("run",), (store.worths, ()), (self.name, it))
         store.worths = state[0]

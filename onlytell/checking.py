@@ -1,7 +1,11 @@
 """Arguments that have the wrong form are refused here, each with the error that the document names for it."""
 
-from onlytell.errors import BadLetter, BadMachine, BadMemory, BadRow, BadState, BadStore
-from onlytell.forms import is_letter, is_machine, is_memory, is_state, is_store
+from onlytell.errors import (
+    BadInput, BadLetter, BadLetters, BadMachine, BadMemory, BadPrices, BadRow, BadState, BadStore,
+)
+from onlytell.forms import (
+    is_input, is_letter, is_letters, is_machine, is_memory, is_prices, is_state, is_store,
+)
 
 
 def check_store(book, value):
@@ -41,3 +45,21 @@ def check_letter(book, value):
     """BadLetter if the value is not a letter of the book."""
     if not is_letter(book, value):
         raise BadLetter(value)
+
+
+def check_letters(book, value):
+    """BadLetters if the value is not an ascending tuple of letters of the book."""
+    if not is_letters(book, value):
+        raise BadLetters(value)
+
+
+def check_prices(many, value):
+    """BadPrices if the value is not a tuple of so many prices."""
+    if not is_prices(value, many):
+        raise BadPrices(value)
+
+
+def check_deed_and_input(book, name, it):
+    """NoDeed if there is no deed of this name, BadInput if this is none of its inputs."""
+    if not is_input(book[name].size, it):
+        raise BadInput(it)

@@ -2,11 +2,11 @@
 
 from onlytell.beside import beside, shows_beside
 from onlytell.errors import BadOffers, BadWish
-from onlytell.forms import is_ascending, is_integer, is_kept
+from onlytell.forms import is_ascending, is_kept, is_price
 from onlytell.harm import harm, shows_harm
+from onlytell.orders import place_in, sets_of
 
 MOST_OFFERS = 4
-DEAREST = 9
 WISHES = ("true", "harmless", "both")
 
 
@@ -32,10 +32,10 @@ def shows_cheapest(book, offers, value, *, wish="both"):
     choices = choices_of(offers)
     if len(value) == 2 and value[0] == "none":
         return shows_reasons(book, [choice for _, choice in choices], value[1], wish)
-    if len(value) != 5 or value[0] != "choice" or not is_integer(value[1]) or value[1:3] not in choices:
+    place = place_in(choices, value[1:3])
+    if len(value) != 5 or value[0] != "choice" or place is None:
         return False
-    ahead = choices[:choices.index(value[1:3])]
-    if not shows_reasons(book, [choice for _, choice in ahead], value[4], wish):
+    if not shows_reasons(book, [choice for _, choice in choices[:place]], value[4], wish):
         return False
     return shows_tables(book, value[2], value[3], wish)
 
@@ -53,7 +53,7 @@ def is_offer(book, value):
     """Whether the value is a change of this book, and its price."""
     if not isinstance(value, tuple) or len(value) != 2 or not is_change(book, value[0]):
         return False
-    return is_integer(value[1]) and 1 <= value[1] <= DEAREST
+    return is_price(value[1])
 
 
 def is_change(book, value):
@@ -73,10 +73,7 @@ def check_wish(value):
 
 def choices_of(offers):
     """All choices as (price, choice), sorted by price, then as tuples."""
-    choices = [(0, ())]
-    for change, price in offers:
-        choices = choices + [(elder[0] + price, elder[1] + (change,)) for elder in choices]
-    return sorted([(price, choice) for price, choice in choices if keeps_no_key_twice(choice)])
+    return sorted([(price, choice) for price, choice in sets_of(offers) if keeps_no_key_twice(choice)])
 
 
 def keeps_no_key_twice(choice):

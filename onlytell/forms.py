@@ -6,10 +6,24 @@ GONE = -1
 # How a show remembers a key: to the end of the letter, or through the whole row.
 HOWS = ("deed", "row")
 
+# The highest price of anything that has one.
+DEAREST = 9
+
 
 def is_integer(value):
     """Whether the value is an integer; True and False are none."""
     return isinstance(value, int) and not isinstance(value, bool)
+
+
+def is_same(right, value):
+    """Whether the value is this right one, which consists of integers, strings and tuples, also by its kinds."""
+    if isinstance(right, tuple):
+        if not isinstance(value, tuple) or len(value) != len(right):
+            return False
+        return all([is_same(part, other) for part, other in zip(right, value)])
+    if is_integer(right):
+        return is_integer(value) and value == right
+    return value == right
 
 
 def is_name(value):
@@ -62,6 +76,33 @@ def is_row(book, value):
     return isinstance(value, tuple) and all([is_letter(book, letter) for letter in value])
 
 
+def is_letters(book, value):
+    """Whether the value is an ascending tuple of letters of this book."""
+    return is_row(book, value) and is_ascending(value)
+
+
+def is_keys(book, value):
+    """Whether the value is an ascending tuple of keys of this book."""
+    if not isinstance(value, tuple) or not all([place_of(book, key) is not None for key in value]):
+        return False
+    return is_ascending(value)
+
+
+def is_input(size, value):
+    """Whether a deed of this size takes the value as its input."""
+    return is_integer(value) and 0 <= value < size
+
+
+def is_price(value):
+    """Whether something can have this price."""
+    return is_integer(value) and 1 <= value <= DEAREST
+
+
+def is_prices(value, many):
+    """Whether the value is a tuple of so many prices."""
+    return isinstance(value, tuple) and len(value) == many and all([is_price(price) for price in value])
+
+
 def is_memory(book, value):
     """Whether the value tells keys of this book that a show remembers."""
     if not isinstance(value, tuple) or not all([is_kept(book, part) for part in value]):
@@ -94,9 +135,14 @@ def is_state(book, machine, value):
 
 def is_left(book, machine, value):
     """Whether the value is what this machine can remember between two letters."""
+    keys = [key for key, how in machine[1] if how == "row"] if machine[0] == "show" else []
+    return is_told_of(book, keys, value)
+
+
+def is_told_of(book, keys, value):
+    """Whether the value is an ascending tuple of (key, worth) of some of these keys, no key twice."""
     if not isinstance(value, tuple):
         return False
-    keys = [key for key, how in machine[1] if how == "row"] if machine[0] == "show" else []
     for part in value:
         if not isinstance(part, tuple) or len(part) != 2 or part[0] not in keys:
             return False

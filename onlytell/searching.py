@@ -26,6 +26,10 @@ class Steps:
             self._known[(state, letter)] = step(self._book, self._machine, state, letter)
         return self._known[(state, letter)]
 
+    def unsought(self, state, letter):
+        """(False, the state behind the letter), where all states are looked for, and no row."""
+        return (False, self.after(state, letter)[1])
+
 
 def searched(firsts, letters, one_step):
     """("row", first state, row) of any shortest row whose last step is sought, or ("table", all states reached)."""
@@ -40,7 +44,8 @@ def searched(firsts, letters, one_step):
             for letter in letters:
                 is_sought, later = one_step(state, letter)
                 if is_sought:
-                    return road_to(reached, state, letter)
+                    first, row = row_to(reached, state)
+                    return ("row", first, row + (letter,))
                 if later not in reached:
                     reached[later] = (state, letter)
                     further.append(later)
@@ -48,13 +53,13 @@ def searched(firsts, letters, one_step):
     return ("table", tuple(sorted(list(reached))))
 
 
-def road_to(reached, state, letter):
-    """("row", first state, row) of the row that leads to this state, and on by this letter."""
-    row = [letter]
+def row_to(reached, state):
+    """(the first state, the row that leads from it to this state)."""
+    row = []
     while reached[state] is not None:
-        state, elder_letter = reached[state]
-        row.append(elder_letter)
-    return ("row", state, tuple(row[::-1]))
+        state, letter = reached[state]
+        row.append(letter)
+    return (state, tuple(row[::-1]))
 
 
 def is_table(value, is_member):

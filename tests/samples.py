@@ -3,7 +3,7 @@
 from itertools import product
 
 from onlytell.books import Book
-from tests.helpers import ANY_VALUES, lined, nested
+from tests.helpers import ANY_VALUES, lined, nested, same
 
 FLIP = lined("key a 2", "key b 2", "deed flip 1", "  add a 1", "  add b 1", "deed look 1", "  if a = b", "    say 1")
 PAIR = lined("key a 2", "key b 2", "deed put 1", "  set a 1", "  if a = 1", "    set b 1", "deed look 1", "  say b")
@@ -115,3 +115,93 @@ WRONG_LETTERS = tuple(ANY_VALUES) + (
     ["put", 0], ("look", 1), ("more", 0), ("a", 0), ("Put", 0), (0, "put"), (("put",), 0), (None, 0), ("put", (0,)),
     ("put", [0]), (("put", 0),), "put 0", {"put": 0}, {0: "put", 1: 0}, ("put", 10 ** 30), ("", 0), nested(30),
 )
+
+# None of these is an ascending tuple of letters of that book; their sequence is look 0, put 0, put 1.
+WRONG_LETTER_SETS = tuple(value for value in ANY_VALUES if value != () or isinstance(value, list)) + (
+    (("put", 0), ("look", 0)), (("put", 1), ("put", 0)), (("put", 0), ("put", 0)),
+    (("look", 0), ("put", 1), ("put", 0)),
+    (("look", 0), ("put", 0), ("put", 0)), [("put", 0)], ("put", 0), {("put", 0): 1}, (["put", 0],), (("put", 0), None),
+    (("put", True),), (("put", False),), (("put", 2),), (("put", -1),), (("put", "0"),), (("put",),), (("put", 0, 0),),
+    (("more", 0),), (("a", 0),), (("look", 0), ("look", 1)), ((0, "put"),), (((("put", 0),),),), "put 0", nested(30),
+)
+
+# None of these is an ascending tuple of keys of that book.
+WRONG_KEYS = tuple(value for value in ANY_VALUES if value not in ((), ("a",)) or isinstance(value, list)) + (
+    "a", ["a"], ("b", "a"), ("a", "a"), ("m", "b"), ("a", "b", "b"), ("a", "m", "b"), ("c",), ("a", "c"), ("put",),
+    ("a", None), (True,), ("",), ("A",), (("a",),), (["a"],), {"a": 1}, ("here",), (("a", 2, False),), ("ab",),
+    nested(30),
+)
+
+# None of these is a wish for worths of keys of that book.
+WRONG_WISHES = tuple(value for value in ANY_VALUES if value != () or isinstance(value, list)) + (
+    ("a", 0), (("a",),), (("a", 0, 0),), (["a", 0],), [("a", 0)], {"a": 0}, (("a", 2),), (("a", -1),), (("m", -2),),
+    (("m", 3),), (("b", 3),), (("b", -1),), (("a", True),), (("a", False),), (("m", None),), (("a", "0"),),
+    (("a", (0,)),),
+    (("b", 0), ("a", 0)), (("a", 0), ("a", 1)), (("a", 0), ("a", 0)), (("a", 1), ("a", 0)),
+    (("a", 0), ("m", 0), ("b", 0)),
+    (("c", 0),), (("put", 0),), (("", 0),), ((0, "a"),), ((None, 0),), ((("a",), 0),), (("a", 0), None),
+    (("a", 10 ** 30),),
+    nested(30),
+)
+
+
+def wrong_prices(many):
+    """Values that are no prices for so many things."""
+    yield from [value for value in ANY_VALUES if value != () or isinstance(value, list) or many > 0]
+    right = (1, 9, 5, 2, 3, 4, 6, 7, 8, 1)
+    yield from (right[:many + 1], list(right[:many]), nested(30), "1" * many, dict(enumerate(right[:many])))
+    if many > 0:
+        yield from (right[:many - 1], 1)
+    for place in range(many):
+        for wrong in (0, 10, -1, True, False, None, "1", (1,), [1], 10 ** 30):
+            yield right[:place] + (wrong,) + right[place + 1:many]
+
+
+def small_rows(book, most=2):
+    """All rows of the book of at most so many letters."""
+    for length in range(most + 1):
+        yield from product(book.letters, repeat=length)
+
+
+def is_letters(book, value):
+    """Whether the value is a tuple of letters of the book, also by its kinds."""
+    return type(value) is tuple and all(any(same(letter, right) for right in book.letters) for letter in value)
+
+
+def is_one_of(values, value):
+    """Whether the value is one of these, also by its kinds."""
+    return any(same(value, right) for right in values)
+
+
+def cycle(key):
+    """Statements by which a key comes to have each of its three worths by turns, and then is gone."""
+    return (f"  if has {key}", f"    if {key} = 2", f"      drop {key}", "    else", f"      add {key} 1", "  else",
+            f"    set {key} 0")
+
+
+# With all keys remembered, a show from the store beside it reaches just 1500 states, and just 1501.
+WIDE_1500 = (Book(lined(
+    "may a 3", "may b 3", "key c 3", "deed p 1", *cycle("a"), "deed q 1", *cycle("b"), "deed r 1", "  add c 1",
+    "deed w 3 blind", "  set a c", "  if c = 1", "    set b c", "  if has b", "    set c it", "  else", "    set a c",
+)), (0, 0, 0))
+WIDE_1501 = (Book(lined(
+    "may a 3", "may b 3", "key c 3", "deed p 1", "  ask g 0", *cycle("a"), "deed q 1", "  ask g 0", *cycle("b"),
+    "deed r 1", "  ask g 0", "  add c 1", "deed w 3 blind", "  add c 1", "  if c = 1", "    set b c", "  else",
+    "    set a it", "deed g 1 blind", "  if has a", "    end", "  if c = 1", "    refuse no",
+)), (-1, -1, 1))
+
+# Nothing but the last letter of r gives c the worth 2; without it, a show that remembers all keys reaches 2250 states.
+BLIND_30 = (
+    "deed w 2 blind", "  if has b", "    add b 2", "  set c it", "  if has a", "    add a 2", "deed x 1 blind",
+    "  set b 0",
+    "  if c != 1", "    if has a", "      drop a",
+)
+WIDE_GOAL = (Book(lined(
+    "may a 3", "may b 3", "key c 3", "deed p 1", *cycle("a"), "deed q 1", *cycle("b"), "deed r 3", "  set c it",
+    *BLIND_30,
+)), (0, -1, 0))
+# Here c never has the worth 2, and just 1500 states can be reached.
+WIDE_NEVER = (Book(lined(
+    "may a 3", "may b 3", "key c 3", "deed p 1", *cycle("a"), "deed q 1", *cycle("b"), "deed r 1", "  set c 0",
+    *BLIND_30,
+)), (0, -1, 0))

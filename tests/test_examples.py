@@ -66,6 +66,50 @@ SECTION_11 = r"""
 [((7, 'a', 0), (7, 'b', 1)), (1, 1, 7, 'b', 1, 0)]
 """
 
+SECTION_12 = r"""
+>>> from onlytell.stamps import reads, stamps
+>>> [reads(pair, (0, 0), (('put', 0), ('look', 0))), reads(pair, (0, 0), (('look', 0),))]
+[(), ('b',)]
+>>> [stamps(pair, (0, 0), (('look', 0),), (3, 2))[:2], stamps(book, (0, 0), (('look', 0),), (1, 1))[:2]]
+[(2, ('b',)), (2, ('a', 'b'))]
+"""
+
+SECTION_13 = r"""
+>>> from onlytell.spoiling import bars, spoils
+>>> spoils(book, (0, 0), (('look', 0),), (('flip', 0),))
+('never', ((0, 0), (1, 1)))
+>>> bars(pair, (0, 0), (('look', 0),), (('look', 0), ('put', 0)), (1, 2))
+(2, (('put', 0),), ((0, 0),), (((), (('put', 0),)), ((('look', 0),), (('put', 0),))))
+"""
+
+SECTION_14 = r"""
+>>> from onlytell.sequences import sequences
+>>> [sequences(pair, (0, 0), ((('put', 0),), (('look', 0),))), sequences(pair, (0, 1), ((('put', 0),), (('look', 0),)))]
+[('kept', (1, 0), 1), ('kept', (0, 1), 2)]
+"""
+
+SECTION_15 = r"""
+>>> from onlytell.apart import apart, classes
+>>> [classes(book, ('run',)), apart(book, ('run',), (0, 0), (0, 1)), classes(pair, ('run',)), len(classes(pair, ('show', ())))]
+[(((0, 0), (1, 1)), ((0, 1), (1, 0))), ('row', (('look', 0),)), (((0, 0), (1, 0)), ((0, 1), (1, 1))), 4]
+"""
+
+SECTION_16 = r"""
+>>> from onlytell.wishes import agree, leads
+>>> [leads(book, ('run',), (0, 0), (('a', 1),), (2, 1))[:3], leads(book, ('run',), (0, 0), (('a', 1), ('b', 0)), (2, 1))[0]]
+[('row', 2, (('flip', 0),)), 'never']
+>>> [agree(book, (), ('a',))[0], agree(book, (('a', 'row'),), ('a',))[0]]
+['parts', 'agree']
+"""
+
+SECTION_17 = r"""
+>>> from onlytell.hands import checks, in_turn
+>>> both = Book('key a 2\nkey b 2\ndeed one 1\n  if a = 0\n    set b 1\ndeed two 1\n  if b = 0\n    set a 1')
+>>> rows = ((('one', 0),), (('two', 0),))
+>>> [in_turn(both, ((rows[0], ()), (rows[1], ())))[:2], checks(both, rows, (((0, 'a'), 1), ((1, 'b'), 1)))[:3]]
+[('mixed', (0, 0)), ('choice', 2, ((0, 'a'), (1, 'b')))]
+"""
+
 SECTION_18 = r"""
 >>> from onlytell.tellings import Telling
 >>> told = Telling(pair, ran(pair, (0, 0), (('put', 0),))[0][0])
@@ -73,8 +117,28 @@ SECTION_18 = r"""
 [2, ('set', 'b', 1), (('set', 'a', 0),)]
 """
 
+SECTION_19 = r"""
+>>> from onlytell.shop import Shop
+>>> shop = Shop(pair, (0, 0), memory=(('a', 'deed'), ('b', 'row')))
+>>> preview = shop.preview((('put', 0),))
+>>> [preview.looked, shop.make(preview), shop.worths, shop.done]
+[(), 1, (1, 1), (('put', 0),)]
+>>> shop.switch(True)
+>>> telling = shop.do('put')
+>>> [len(telling), shop.left, shop.worths, shop.is_showing]
+[2, (('b', 1),), (1, 1), True]
+"""
+
+SECTION_20 = r"""
+>>> from onlytell.desk import Desk
+>>> desk = Desk(pair.text, (0, 0))
+>>> [desk.say('do put 0'), desk.say('worths'), desk.say('reads look 0'), desk.say('true a b'), desk.say('true a'), desk.say('harm')]
+['set a 1; set b 1', '1 1', 'b', 'yes', 'no', 'no']
+"""
+
 SECTIONS = (
-    SECTION_4, SECTION_5, SECTION_6, SECTION_7, SECTION_8, SECTION_9, SECTION_10, SECTION_11, SECTION_18,
+    SECTION_4, SECTION_5, SECTION_6, SECTION_7, SECTION_8, SECTION_9, SECTION_10, SECTION_11, SECTION_12, SECTION_13,
+    SECTION_14, SECTION_15, SECTION_16, SECTION_17, SECTION_18, SECTION_19, SECTION_20,
 )
 
 

@@ -8,6 +8,8 @@ from importlib import import_module
 
 from onlytell import errors
 from onlytell.books import Book
+from onlytell.desk import Desk
+from onlytell.shop import Shop
 from onlytell.stores import Store
 from onlytell.tellings import Telling
 from tests.helpers import three_keys
@@ -18,10 +20,12 @@ FOLDER = pathlib.Path(__file__).resolve().parent.parent / "onlytell"
 # The files in a sequence in which they can be written: those of the interface, and those that they need besides.
 SEQUENCE = (
     "errors", "forms", "tellings", "stores", "lines", "scripts", "naming", "acting", "books", "checking", "machines",
-    "running", "showing", "searching", "beside", "harm", "choosing", "looks",
+    "running", "showing", "searching", "beside", "harm", "orders", "choosing", "looks", "spoiling", "stamps",
+    "sequences", "apart", "wishes", "turns", "hands", "shop", "desk",
 )
 LISTED = (
     "errors", "tellings", "stores", "books", "machines", "running", "showing", "beside", "harm", "choosing", "looks",
+    "spoiling", "stamps", "sequences", "apart", "wishes", "hands", "shop", "desk",
 )
 
 # For each class its parameters, its methods with theirs, and the attributes that each object has.
@@ -33,18 +37,35 @@ CLASSES = {
         # Books alone make deeds, so it is free what they are made of.
         "Deed": (None, {"__call__": ("store", "it")}, ("name", "book", "size", "is_blind")),
     },
+    "shop": {
+        "Shop": (
+            ("book", "worths", "*", "memory"),
+            {"do": ("deed", "it"), "switch": ("on",), "preview": ("row",), "make": ("preview",), "holds": ("preview",),
+             "showing": (), "tried": ("look",), "copy": ()},
+            ("book", "memory", "worths", "left", "is_showing", "done"),
+        ),
+        # Shops alone make previews.
+        "Preview": (None, {}, ("book", "row", "tellings", "looked")),
+    },
+    "desk": {"Desk": (("text", "worths", "*", "memory"), {"say": ("line",)}, ("shop",))},
 }
 SIGNS = {
     "Telling": ("__getitem__", "__contains__", "__len__", "__add__", "__eq__"),
     "Store": ("__getitem__", "__setitem__", "__contains__", "__len__", "__eq__", "__ior__"),
     "Book": ("__getitem__", "__contains__", "__len__", "__eq__"),
     "Deed": ("__call__", "__eq__"),
+    "Shop": ("__eq__",),
+    "Preview": (),
+    "Desk": (),
 }
 OBJECTS = {
     "Telling": Telling(three_keys(), ()),
     "Store": Store(three_keys(), (0, 0, 0)),
     "Book": three_keys(),
     "Deed": three_keys()["put"],
+    "Shop": Shop(three_keys(), (0, 0, 0)),
+    "Preview": Shop(three_keys(), (0, 0, 0)).preview(()),
+    "Desk": Desk(three_keys().text, (0, 0, 0)),
 }
 
 # For each function its parameters; those behind the star are passed by name alone.
@@ -60,6 +81,27 @@ FUNCTIONS = {
     "choosing": {"cheapest": "book offers * wish", "shows_cheapest": "book offers value * wish"},
     "looks": {
         "looks": "book machine state letter", "first_unlike": "book memory store row", "enough": "book",
+    },
+    "spoiling": {
+        "spoils": "book store row letters", "shows_spoils": "book store row letters value",
+        "bars": "book store row letters prices", "shows_bars": "book store row letters prices value",
+    },
+    "stamps": {
+        "hangs": "book row", "shows_hangs": "book row value", "reads": "book store row",
+        "stamps": "book store row prices", "shows_stamps": "book store row prices value",
+    },
+    "sequences": {"sequences": "book store rows"},
+    "apart": {
+        "apart": "book machine store other", "shows_apart": "book machine store other value",
+        "classes": "book machine",
+    },
+    "wishes": {
+        "leads": "book machine store wish prices", "shows_leads": "book machine store wish prices value",
+        "agree": "book memory keys", "shows_agree": "book memory keys value",
+    },
+    "hands": {
+        "played": "book store hands steps", "in_turn": "book hands", "shows_in_turn": "book hands value",
+        "checks": "book rows offers", "shows_checks": "book rows offers value",
     },
 }
 
@@ -129,6 +171,9 @@ class Definitions(unittest.TestCase):
             call = getattr(import_module("onlytell.choosing"), function)
             self.assertEqual(inspect.signature(call).parameters["wish"].default, "both")
         self.assertEqual(inspect.signature(three_keys()["put"]).parameters["it"].default, 0)
+        self.assertEqual(inspect.signature(Shop).parameters["memory"].default, ())
+        self.assertEqual(inspect.signature(Desk).parameters["memory"].default, ())
+        self.assertEqual(inspect.signature(Shop.do).parameters["it"].default, 0)
 
     def test_books_alone_make_deeds(self):
         book = Book("key a 2\ndeed put 1\n  end")
