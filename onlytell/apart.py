@@ -33,7 +33,8 @@ def classes(book, machine):
     groups = {}
     for store in book.stores:
         groups.setdefault(numbers[(store, ())], []).append(store)
-    return tuple(sorted([tuple(group) for group in groups.values()]))
+    # The stores are ascending, so the classes are, too, each of which begins with its first store.
+    return tuple([tuple(group) for group in groups.values()])
 
 
 def numbers_of_classes(steps, states, letters):

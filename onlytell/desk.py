@@ -2,7 +2,7 @@
 
 from onlytell.beside import is_true
 from onlytell.books import Book
-from onlytell.checking import check_deed_and_input, check_memory
+from onlytell.checking import check_deed_and_input
 from onlytell.errors import BadLine
 from onlytell.forms import GONE, is_name
 from onlytell.harm import harm
@@ -42,8 +42,8 @@ class Desk:
         return or_nothing(" ".join(reads(self.shop.book, self.shop.worths, ((deed, it),))))
 
     def _answer_to_keys(self, word, names):
+        # What is no memory of the book is refused by both.
         memory = tuple([(name, "row") for name in names])
-        check_memory(self.shop.book, memory)
         if word == "true":
             return yes_or_no(is_true(self.shop.book, memory))
         return yes_or_no(harm(self.shop.book, memory)[0] == "harms")

@@ -40,9 +40,9 @@ def shows_in_turn(book, hands, value):
 
 def shows_turns(book, turns, value):
     """Whether the value is a closed table with all first states, in no member of which the hands are mixed."""
-    if not is_table(value, turns.is_member) or any([turns.is_mixed(member) for member in value]):
-        return False
-    return is_closed(value, [turns.first(store) for store in book.stores], turns.steps, turns.mixing)
+    # Where all hands are done no step can come, so what is asked of the steps is asked of the member itself.
+    firsts = [turns.first(store) for store in book.stores]
+    return is_table(value, turns.is_member) and is_closed(value, firsts, turns.steps, turns.mixing)
 
 
 def shows_mixed(turns, store, value):

@@ -87,14 +87,11 @@ class Way:
         return all([self._is_kept_below(price, costs, state) for state in costs])
 
     def _is_kept_below(self, price, costs, state):
-        """Whether this state has not the wish, and what it leads to below the price costs no more than it says."""
+        """Whether this state has not the wish, and whatever it leads to costs no more than it does by this way."""
         if self.has_wish(state):
             return False
-        for _, dearer, later in self.onward(state):
-            most = costs[state] + dearer
-            if most < price and costs.get(later, price) > most:
-                return False
-        return True
+        # A state that is not there is taken to cost the price, which is never too much for a way that costs as much.
+        return all([costs.get(later, price) <= costs[state] + dearer for _, dearer, later in self.onward(state)])
 
     def _is_cost(self, price, value):
         """Whether the value is a state of the machine, and a cost below this price."""

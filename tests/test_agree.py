@@ -6,6 +6,7 @@ from itertools import combinations
 from onlytell.beside import is_true
 from onlytell.books import Book
 from onlytell.errors import BadKeys, BadMemory, TooMany
+from onlytell.looks import enough
 from onlytell.running import ran
 from onlytell.showing import shown
 from onlytell.wishes import agree, shows_agree
@@ -141,6 +142,19 @@ class Agree(unittest.TestCase):
         for book in SAMPLES:
             if is_without_blind_deeds(book):
                 self.assertEqual(agree(book, all_kept(book), tuple(name for name, _ in all_kept(book)))[0], "agree")
+
+    def test_what_enough_says_is_enough_to_agree_on_it(self):
+        many = 0
+        for book in SAMPLES + (Book(QUIET),):
+            if is_without_blind_deeds(book):
+                keys = enough(book)
+                memory = tuple((key, "row") for key in keys)
+                self.assertIs(is_true(book, memory), True)
+                self.assertEqual(agree(book, memory, keys)[0], "agree")
+                # Where one of them is left out, most shows do not agree on all.
+                many += sum(agree(book, memory[:place] + memory[place + 1:],
+                                  keys)[0] == "parts" for place in range(len(keys)))
+        self.assertGreater(many, 5)
 
     def test_by_the_names_of_the_arguments(self):
         book = Book(FLIP)

@@ -81,6 +81,13 @@ class Apart(unittest.TestCase):
         self.assertEqual(apart(book, ("show", (("a", "deed"),)), (0, 0), (0, 1))[0], "never")
         self.assertEqual(apart(book, ("show", (("a", "row"),)), (0, 0), (0, 1)), ("row", (grow, grow, LOOK)))
 
+    def test_letters_that_must_come_in_their_sequence(self):
+        book = Book(lined("key a 3", "key b 2", "deed two 1", "  if a = 1", "    add a 1", "deed one 1", "  if a = 0",
+                          "    set a 1", "deed look 1", "  if a = 2", "    say b"))
+        row = (("one", 0), ("two", 0), LOOK)
+        for machine in (RUN, ("show", all_kept(book))):
+            self.assertEqual(apart(book, machine, (0, 0), (0, 1)), ("row", row))
+
     def test_the_table_has_the_state_of_store_ahead(self):
         book = Book(FLIP)
         self.assertTrue(same(apart(book, RUN, (0, 0), (1, 1)), ("never", (

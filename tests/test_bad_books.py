@@ -338,6 +338,11 @@ class Else(unittest.TestCase):
         self.check_at(6, "  if a = 1", "    if b = 1", "      end", "    else", "      end", "    else", "      end")
         self.check_at(4, "  if a = 1", "    end", "  else", "  end")
         self.check_at(4, "  if a = 1", "    end", "  else", "  else", "    end")
+        both = ("  if a = 1", "    end", "  else", "    end")
+        self.check_at(0, *both, *both)
+        self.check_at(0, "  end", *both, "  end", *both)
+        self.check_at(9, *both, *both, "  else", "    end")
+        self.check_at(7, "  if a = 1", "    end", *both, "  else", "    end")
 
 
 class Bounds(unittest.TestCase):

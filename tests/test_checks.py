@@ -267,6 +267,14 @@ class Values(unittest.TestCase):
         ):
             self.check_shown(same(value, (word, price, choice, table, reasons)), BOTH_ROWS, offers, value)
 
+    def test_a_choice_of_checks_that_are_not_offered(self):
+        book, offers = Book(BOTH), ((A_0, 1), (A_1, 1))
+        reasons = checks(book, BOTH_ROWS, offers)[1]
+        table = in_turn(book, ((ONE, ("a",)), (TWO, ("b",))))[1]
+        for price in (2, 3, None):
+            self.check_shown(False, BOTH_ROWS, offers, ("choice", price, (A_0, B_1), table, reasons))
+        self.check_shown(True, BOTH_ROWS, offers, ("none", reasons))
+
     def test_a_price_of_0_is_not_false_and_one_of_1_is_not_true(self):
         rows = ((("flip", 0),), (("flip", 0),))
         word, price, choice, table, reasons = checks(Book(FLIP), rows, ((A_0, 9),))

@@ -162,6 +162,13 @@ class Answers(unittest.TestCase):
         self.assertEqual(told[0], "none")
         self.assertEqual([reason[0] for reason in told[1]], [(), (A_DEED,), (A_ROW,)])
 
+    def test_a_key_and_a_deed_of_one_name(self):
+        # To teach the deed a keeps no key.
+        book = Book(lined("key a 2", "deed a 1 blind", "  set a 1", "deed look 1", "  say a"))
+        told = cheapest(book, ((A_ROW, 1), (("teach", "a"), 2)))
+        self.assertEqual(told[:3], ("choice", 3, (A_ROW, ("teach", "a"))))
+        self.assertEqual([reason[0] for reason in told[4]], [(), (A_ROW,), (("teach", "a"),)])
+
     def test_none_has_a_reason_for_each_choice(self):
         told = cheapest(Book(PAIR), ((A_DEED, 2), (A_ROW, 1), (B_DEED, 4)))
         self.assertEqual([reason[0] for reason in told[1]],
@@ -309,6 +316,15 @@ class Values(unittest.TestCase):
             more = reasons + (((A_ROW,), "parts", (0, 0), (("put", 0), ("look", 0))),
                               ((A_DEED, B_ROW), "parts", (0, 0), row))
             self.check_shown(False, book, offers, ("choice", 3, (A_ROW, B_ROW), tables, more))
+
+    def test_a_choice_of_changes_that_are_not_offered(self):
+        book, offers = Book(SLY), ((("teach", "put"), 1),)
+        reasons = cheapest(book, offers)[1]
+        taught, memory = book.taught(("put",)), (("a", "row"),)
+        tables = (beside(taught, ("run",), taught, ("show", memory))[1], harm(taught, memory)[1])
+        for price in (2, 1, None):
+            self.check_shown(False, book, offers, ("choice", price, (A_ROW, ("teach", "put")), tables, reasons))
+        self.check_shown(True, book, offers, ("none", reasons))
 
     def test_reasons_of_either_kind_for_both(self):
         # Run and show part by look behind put, and put alone changes the base.

@@ -310,34 +310,54 @@ class ShownTurns(unittest.TestCase):
     def test_marks_by_their_form(self):
         book, hands = Book(GONE), (((("off", 0), ("look", 0)), ("a", "m")),)
         word, table = in_turn(book, hands)
-        self.check_shown(True, hands, (word, table), GONE)
-        first = book.stores[0]
+        last = book.stores[-1]
+        # Nothing like this was ever looked at, and yet it is there by its form. It cannot be put, as m is there.
         told, worths = ((), (("say", 7),)), (1, -1)
-        right = (first, first, (("looked", told, worths),))
-        for wrong in (("looked", told), ("looked", told, worths, ()), ("looked", told, (0,)),
-                      ("looked", told, (0, -1, 0)),
-                      ("looked", told, (2, -1)), ("looked", told, (-1, -1)), ("looked", told, (0, -2)),
-                      ("looked", told, (0, 3)), ("looked", told, (True, -1)), ("looked", told, [0, -1]),
-                      ("looked", told[1:], worths), ("looked", told + ((),), worths), ("looked", list(told), worths),
-                      ("looked", ((), (("say", -1),)), worths), ("looked", ((), (("say", True),)), worths),
-                      ("looked", ((), (("set", "a", 2),)), worths), ("looked", ((), (("drop", "a"),)), worths),
-                      ("looked", ((), [("say", 0)]), worths), ("looked", ((), ("say", 0)), worths),
-                      ("looked", ((), (("refused", (), "x"),)), worths), ("looked", None, worths), ("done",),
-                      ("done", told, worths), ("done", told[:1]), ("done", ((), (("say", "0"),))), ("new", told),
-                      ("New",),
-                      ("", ), (), None, "new", ["new"], ("look", told, worths), ("new", ()), (("new",),), ("done", ()),
-                      ("looked", (), ())):
-            self.check_shown(False, hands, (word, table + ((book.stores[-1], book.stores[-1], (wrong,)),)), GONE)
-        for marks in ((), (NEW, NEW), [NEW], NEW, None, "new", ((NEW,),)):
-            self.check_shown(False, hands, (word, table + ((book.stores[-1], book.stores[-1], marks),)), GONE)
-        # Nothing like this was ever looked at, and yet it is there by its form. It cannot be put, as a is 0.
-        members = set(table) | {right}
-        self.assertTrue(self.is_closed(book, hands, members))
-        self.check_shown(True, hands, (word, tuple(sorted(members))), GONE)
+        member = (last, last, (("looked", told, worths),))
+        greater = tuple(sorted(table + (member,)))
+        place = greater.index(member)
+        self.assertTrue(self.is_closed(book, hands, set(greater)))
+        self.check_shown(True, hands, (word, greater), GONE)
+        for wrong in (
+            ("looked", told), ("looked", told, worths, ()), ("looked", told, (1,)), ("looked", told, (1, -1, 0)),
+            ("looked", told, (2, -1)), ("looked", told, (-1, -1)), ("looked", told, (0, -2)), ("looked", told, (0, 3)),
+            ("looked", told, (True, -1)), ("looked", told, [1, -1]), ("looked", told, None), ("looked", told, "1-"),
+            ("looked", told[1:], worths), ("looked", ((),) + told, worths), ("looked", list(told), worths),
+            ("looked", ((), (("say", -1),)), worths), ("looked", ((), (("say", True),)), worths),
+            ("looked", (), worths),
+            ("looked", ((), (("set", "a", 2),)), worths), ("looked", ((), (("drop", "a"),)), worths),
+            ("looked", ((), [("say", 0)]), worths), ("looked", ((), ("say", 0)), worths), ("looked", "no", worths),
+            ("looked", ((), (("refused", (), "x"),)), worths), ("looked", None, worths), ["looked", told, worths],
+            ("lookee", told, worths), ("look", told, worths), (None, told, worths), (("looked",), told, worths),
+            ("looked",), (told, worths), ("looked", worths, told), ("looked", (None, ()), worths),
+        ):
+            value = greater[:place] + ((last, last, (wrong,)),) + greater[place + 1:]
+            self.check_shown(False, hands, (word, value), GONE)
+            self.check_shown(False, hands, (word, greater[:place + 1] + ((last, last, (wrong,)),
+                                                                         ) + greater[place + 1:]), GONE)
+        for marks in ((), (NEW, NEW), [NEW], NEW, None, "new", ((NEW,),), (("looked", told, worths), NEW)):
+            for at in (place, place + 1, len(greater)):
+                self.check_shown(False, hands, (word, greater[:at] + ((last, last, marks),) + greater[at:]), GONE)
         # With the present worths it can be put, and that is no turn.
+        first = book.stores[0]
         members = set(table) | {(first, first, (("looked", told, (0, -1)),)), (first, first, (("done", told),))}
         self.assertFalse(self.is_closed(book, hands, members))
         self.check_shown(False, hands, (word, tuple(sorted(members))), GONE)
+
+    def test_marks_by_their_form_where_the_hand_is_new_or_done(self):
+        book, hands = Book(SAY), ((TELL, ()),)
+        word, table = in_turn(book, hands)
+        told = ((("say", 1),),)
+        for mark, wrongs in ((NEW, (("new", ()), ("new", told), ("new", None), ["new"], ("newer",))),
+                             (("done", told), (("done", told, ()), ("done", told, told), ["done", told]))):
+            place = table.index(((1,), (1,), (mark,)))
+            for wrong in wrongs:
+                for value in (table[:place] + (((1,), (1,), (wrong,)),) + table[place + 1:],
+                              table[:place + 1] + (((1,), (1,), (wrong,)),) + table[place + 1:]):
+                    self.check_shown(False, hands, (word, value))
+        for member in (((1,), (1,)), ((1,), (1,), (NEW,), ()), ((1,), (1,), NEW), [(1,), (1,), (NEW,)]):
+            place = table.index(((1,), (1,), (NEW,)))
+            self.check_shown(False, hands, (word, table[:place + 1] + (member,) + table[place + 1:]))
 
     def test_tables_of_other_hands(self):
         book = Book(BOTH)

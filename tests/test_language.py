@@ -55,6 +55,13 @@ def nodes(kind):
                 yield path.name, node
 
 
+def is_iterator(node):
+    """Whether a call gives a zip, an enumerate, a range or a view."""
+    if isinstance(node.func, ast.Name):
+        return node.func.id in ("zip", "enumerate", "range", "reversed", "map", "iter")
+    return isinstance(node.func, ast.Attribute) and node.func.attr in ("items", "keys", "values")
+
+
 class Files(unittest.TestCase):
     def test_the_folder_has_nothing_but_files_of_python(self):
         others = [path.name for path in FOLDER.iterdir() if path.suffix != ".py" and path.name != "__pycache__"]
@@ -144,6 +151,48 @@ class Words(unittest.TestCase):
         for name, node in nodes(ast.Call):
             if isinstance(node.func, ast.Name):
                 self.assertNotEqual(node.func.id, "reversed", (name, node.lineno))
+
+    def test_zip_and_its_kind_are_iterated_on_the_spot(self):
+        for path in files():
+            taken = set()
+            for node in ast.walk(ast.parse(path.read_text(encoding="utf-8"))):
+                if isinstance(node, (ast.For, ast.comprehension)):
+                    taken.add(id(node.iter))
+                if isinstance(node, ast.Call) and isinstance(node.func, ast.Name) and node.args:
+                    if node.func.id in ("list", "tuple", "dict", "sorted", "sum", "enumerate", "zip"):
+                        taken.add(id(node.args[0]))
+                if isinstance(node, ast.Call) and is_iterator(node):
+                    self.assertIn(id(node), taken, (path.name, node.lineno))
+
+    def test_sets_stand_in_a_len_alone(self):
+        for path in files():
+            nodes_here = list(ast.walk(ast.parse(path.read_text(encoding="utf-8"))))
+            measured = [id(node.args[0]) for node in nodes_here if isinstance(node, ast.Call)
+                        and isinstance(node.func, ast.Name) and node.func.id == "len"]
+            for node in nodes_here:
+                self.assertNotIsInstance(node, (ast.Set, ast.SetComp), path.name)
+                if isinstance(node, ast.Call) and isinstance(node.func, ast.Name) and node.func.id == "set":
+                    self.assertIn(id(node), measured, (path.name, node.lineno))
+
+    def test_what_leaves_a_block_only_assigns_attributes(self):
+        for name, node in nodes(ast.FunctionDef):
+            if node.name == "__exit__":
+                self.assertEqual([part.arg for part in node.args.args], ["self", "kind", "value", "trace"])
+                for row in node.body:
+                    self.assertIsInstance(row, ast.Assign, (name, row.lineno))
+                    self.assertIsInstance(row.value, ast.Attribute, (name, row.lineno))
+                read = [part.id for part in ast.walk(node) if isinstance(part, ast.Name)]
+                self.assertEqual([word for word in read if word in ("kind", "value", "trace")], [])
+
+    def test_nothing_is_called_keys(self):
+        for name, node in nodes((ast.Attribute, ast.FunctionDef)):
+            self.assertNotEqual(getattr(node, "attr", None) or getattr(node, "name", None), "keys", (name, node.lineno))
+
+    def test_no_name_is_a_method_and_an_attribute(self):
+        methods = {part.name for _, node in nodes(ast.ClassDef) for part in node.body if isinstance(part, ast.FunctionDef)}
+        for name, node in nodes(ast.Attribute):
+            if isinstance(node.ctx, ast.Store):
+                self.assertNotIn(node.attr, methods, (name, node.lineno))
 
     def test_any_and_its_kind_take_lists(self):
         for name, node in nodes(ast.Call):

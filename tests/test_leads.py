@@ -383,6 +383,26 @@ class ShownLeads(unittest.TestCase):
             self.assertEqual(is_right(Book(STEPS), *case[1:], ("row", 4, row, costs)), right, costs)
             self.check_shown(right, case, ("row", 4, row, costs))
 
+    def test_a_state_twice_with_costs_each_of_which_would_do(self):
+        case = (STEPS, RUN, (0, 0), (("a", 2),), (2, 4, 9))
+        first, grown, other = ((0, 0), ()), ((1, 0), ()), ((1, 1), ())
+        row = (("jump", 0),)
+        self.check_shown(True, case, ("row", 4, row, ((first, 0), (grown, 2), (other, 2))))
+        self.check_shown(True, case, ("row", 4, row, ((first, 0), (grown, 2), (other, 3))))
+        self.check_shown(False, case, ("row", 4, row, ((first, 0), (grown, 2), (other, 2), (other, 3))))
+        self.check_shown(False, case, ("row", 4, row, ((first, 0), (grown, 1), (grown, 2))))
+
+    def test_a_state_that_leads_to_no_other_one(self):
+        text = lined("key a 2", "key b 2", "deed go 1", "  if b = 0", "    set a 1", "deed trap 1", "  if a = 0",
+                     "    set b 1")
+        case = (text, RUN, (0, 0), (("a", 1),), (3, 1))
+        first, trapped = ((0, 0), ()), ((0, 1), ())
+        for cost, right in ((1, True), (0, True), (-1, False), (-9, False), (2, False), (3, False), (True, False)):
+            self.check_shown(right, case, ("row", 3, (("go", 0),), ((first, 0), (trapped, cost))))
+        self.check_shown(False, case, ("row", 3, (("go", 0),), ((first, 0),)))
+        # For the price 1 nothing else is there.
+        self.check_shown(True, (text, RUN, (0, 0), (("a", 1),), (1, 1)), ("row", 1, (("go", 0),), ((first, 0),)))
+
     def test_lower_costs_than_the_least_ones(self):
         # Only the goal counts, so a state on no way to it may be told to cost less.
         case = (STEPS, RUN, (0, 0), (("a", 2),), (3, 5, 1))

@@ -59,6 +59,12 @@ class Numbers(unittest.TestCase):
         check_refused(self, TooMany, 1500, searched, [0], letters, later_step)
         self.assertEqual(searched([0], tuple(range(1500)), later_step), ("row", 0, (1, 5)))
 
+    def test_the_letters_of_the_row_stand_in_their_sequence(self):
+        def step(state, letter):
+            return state + (letter,) == tuple("yxzzy"), (state + (letter,))[-4:] if len(state) < 4 else state
+
+        self.assertEqual(searched([()], tuple("xyz"), step), ("row", (), tuple("yxzzy")))
+
     def test_all_first_states_compete(self):
         self.assertEqual(searched([0, 7, 3], ("x",), counting(99, sought=8)), ("row", 7, ("x", "x")))
 

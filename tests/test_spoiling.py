@@ -215,6 +215,13 @@ class ShownSpoils(unittest.TestCase):
         self.check_shown(False, case, ("never", ((0, 0), (1, 0), (1, 1))))
         self.check_shown(False, case, ("never", ((0, 0),)))
 
+    def test_a_member_from_which_the_row_is_spoilt_though_all_letters_lead_from_it_to_others(self):
+        book = Book(lined("key a 2", "deed look 1", "  say a", "deed put 1", "  set a 0"))
+        case = (book.text, (0,), (LOOK,), (("put", 0),))
+        self.check_shown(True, case, ("never", ((0,),)))
+        self.check_shown(False, case, ("never", ((0,), (1,))))
+        self.check_shown(True, (book.text, (0,), (("put", 0),), (("put", 0),)), ("never", ((0,), (1,))))
+
     def test_rows_of_the_others(self):
         case = (FAR, (1, 1), (LOOK,), (GROW_A, GROW_B))
         for others, right in (
